@@ -1,0 +1,1 @@
+"""Slideroom: a small memory in which blocks can be slid."""
