@@ -18,3 +18,13 @@ def end_of(stretch):
 def share_cells(one, other):
     """Whether two stretches share a cell."""
     return one[0] < end_of(other) and other[0] < end_of(one)
+
+
+def largest_size(stretches):
+    """The size of the greatest of a list of stretches, 0 where there is none."""
+    return max([stretch[1] for stretch in stretches], default=0)
+
+
+def all_sizes(stretches):
+    """How many cells a list of stretches has together."""
+    return sum([stretch[1] for stretch in stretches])
