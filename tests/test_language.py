@@ -38,6 +38,8 @@ NAMES_OUT = set(
     " copyright credits delattr dir eval exec exit gc getattr globals hasattr help id importlib license locals"
     " methodcaller os quit setattr super type vars sys __name__ chr print".split()
 )
+WALKED = {"zip", "enumerate", "reversed", "range"}
+WALKERS = {"list", "tuple", "dict", "sorted", "sum", "any", "all", "enumerate", "zip"}
 
 
 def files():
@@ -55,11 +57,36 @@ def nodes(*kinds):
                 yield path.name, node
 
 
+def names_of_top(tree):
+    """The names of a file's own functions, classes and values."""
+    for node in tree.body:
+        if isinstance(node, ast.Assign):
+            yield node.targets[0].id
+        elif isinstance(node, (ast.FunctionDef, ast.ClassDef)):
+            yield node.name
+
+
+def within():
+    """Every node beside the one in which it stands."""
+    for path, tree in trees():
+        for outer in ast.walk(tree):
+            for node in ast.iter_child_nodes(outer):
+                yield path.name, node, outer
+
+
+def called_name(node):
+    """The name that a node calls, None where it calls none."""
+    if isinstance(node, ast.Call) and isinstance(node.func, ast.Name):
+        return node.func.id
+    return None
+
+
 class FilesTest(unittest.TestCase):
     def test_what_lies_in_the_folder(self):
         for path in PACKAGE.iterdir():
             if path.name != "__pycache__":
                 self.assertRegex(path.name, r"\A([a-z][a-z0-9]*|__init__)\.py\Z")
+                self.assertNotIn(path.stem, dir(builtins))
         self.assertIn("__init__.py", [path.name for path in files()])
 
     def test_signs_and_sizes(self):
@@ -78,7 +105,7 @@ class FilesTest(unittest.TestCase):
 
 class TopTest(unittest.TestCase):
     def test_imports(self):
-        defined = {path.stem: {one.name for one in tree.body if hasattr(one, "name")} for path, tree in trees()}
+        defined = {path.stem: set(names_of_top(tree)) for path, tree in trees()}
         for path, tree in trees():
             for node in ast.walk(tree):
                 self.assertNotIsInstance(node, ast.Import)
@@ -200,6 +227,28 @@ class CodeTest(unittest.TestCase):
         for name, node in nodes(ast.Call):
             if isinstance(node.func, ast.Attribute):
                 self.assertIn(node.func.attr, methods | OWN_METHODS, (name, node.lineno))
+
+    def test_methods_are_called_where_they_stand(self):
+        methods = {one.name for _, node in nodes(ast.ClassDef) for one in node.body if hasattr(one, "name")}
+        for name, node, outer in within():
+            if isinstance(node, ast.Attribute) and node.attr in methods | OWN_METHODS:
+                self.assertTrue(isinstance(outer, ast.Call) and outer.func is node, (name, node.lineno))
+
+    def test_what_is_walked_at_once(self):
+        for name, node, outer in within():
+            walks = called_name(node) in WALKED
+            if isinstance(node, ast.Call) and isinstance(node.func, ast.Attribute):
+                walks = node.func.attr in {"items", "keys", "values"}
+            if walks:
+                in_loop = isinstance(outer, (ast.For, ast.comprehension)) and outer.iter is node
+                in_call = called_name(outer) in WALKERS and outer.args[0] is node
+                alone = called_name(outer) in {"min", "max"} and outer.args == [node]
+                self.assertTrue(in_loop or in_call or alone, (name, node.lineno))
+
+    def test_what_is_taken_of_errors(self):
+        for name, node in nodes(ast.ExceptHandler):
+            self.assertIsInstance(node.type, ast.Name, (name, node.lineno))
+            self.assertNotIn(node.type.id, {"Exception", "TypeError", "ValueError", "LookupError", "IndexError"}, name)
 
     def test_base_classes_are_only_asked_to_make(self):
         classes = {node.name for _, node in nodes(ast.ClassDef)}
