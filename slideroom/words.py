@@ -15,6 +15,13 @@ def is_whole(thing):
     return isinstance(thing, int) and not isinstance(thing, bool)
 
 
+def has_truth(thing):
+    """Whether the thing is True or False, or has one of them in it, as deep as its lists and tuples go."""
+    if isinstance(thing, (list, tuple)):
+        return any([has_truth(part) for part in thing])
+    return isinstance(thing, bool)
+
+
 def is_from(thing, low):
     """Whether the thing is a whole number from low on."""
     return is_whole(thing) and low <= thing
