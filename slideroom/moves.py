@@ -1,7 +1,7 @@
 """Moves: slides of blocks over free cells, one behind the other, told of a layout."""
 
 from slideroom.copies import copies_of
-from slideroom.errors import NoMoves, NoSlide, Pinned, Twice
+from slideroom.errors import NoMoves, NoSlide, Pinned, RoomError, Twice
 from slideroom.layouts import cells_of
 from slideroom.stretches import end_of
 from slideroom.words import is_within
@@ -43,6 +43,14 @@ def gone_through(layout, moves):
         steps.append(step_of(layout, name, to, moved_ahead))
         layout = layout.moved(name, to)
     return (steps, layout)
+
+
+def gone_through_if_let(layout, moves):
+    """The steps of the moves and the layout behind them, None where the moves are refused."""
+    try:
+        return gone_through(layout, moves)
+    except RoomError:
+        return None
 
 
 def steps_of(layout, moves):

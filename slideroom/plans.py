@@ -1,9 +1,9 @@
 """Papers: slides that bring a hole of a size and move the fewest cells, or the reason why no slides do."""
 
-from slideroom.errors import NoSize, RoomError
+from slideroom.errors import NoSize
 from slideroom.holes import holes_of
 from slideroom.layouts import cells_of
-from slideroom.moves import copies_of_steps, gone_through, slid
+from slideroom.moves import copies_of_steps, gone_through_if_let, slid
 from slideroom.prices import gaps_of, prices, stretches_of
 from slideroom.stretches import end_of, largest_size
 from slideroom.words import has_truth, is_from
@@ -153,11 +153,8 @@ def plan(layout, size):
 def price_of(layout, size, moves):
     """How many copies the moves have, None where they are refused or bring no hole of a size."""
     need_size(size)
-    try:
-        told = gone_through(layout, moves)
-    except RoomError:
-        return None
-    if largest_size(holes_of(told[1])) < size:
+    told = gone_through_if_let(layout, moves)
+    if told is None or largest_size(holes_of(told[1])) < size:
         return None
     return len(copies_of_steps(told[0]))
 

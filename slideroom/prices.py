@@ -65,10 +65,14 @@ def is_prices(layout, size, told):
     return told == prices(layout, size) and not has_truth(told)
 
 
+def blocks_between(layout, first, behind):
+    """The blocks that start from a place on and ahead of another one, by rising starts."""
+    return [block for block in layout.blocks() if first <= block[1] < behind]
+
+
 def free_between(layout, first, behind):
     """How many cells are free from a place to another one, neither of which lies in the midst of a block."""
-    within = [block[2] for block in layout.blocks() if first <= block[1] < behind]
-    return behind - first - sum(within)
+    return behind - first - sum([block[2] for block in blocks_between(layout, first, behind)])
 
 
 def stretches_of(layout):

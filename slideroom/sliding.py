@@ -26,6 +26,12 @@ class Slider(Memory):
         if self.copies != []:
             raise Sliding(self.copied)
 
+    def need_slidable(self):
+        """Refuse while a slide is under way, and where nothing is ever slid."""
+        self.need_still()
+        if self.rule_word() == "halves":
+            raise Fixed(self.rule_word())
+
     def lies_at(self, name, at):
         """The memory's cell in which a cell of a block lies, also in the midst of a slide."""
         place = self.shelf.named(name).start + at
@@ -34,9 +40,7 @@ class Slider(Memory):
 
     def begin(self, moves):
         """Begin the slides of moves; how many copies they have."""
-        self.need_still()
-        if self.rule_word() == "halves":
-            raise Fixed(self.rule_word())
+        self.need_slidable()
         self.steps = steps_of(self.layout(), moves)
         self.copies = copies_of_steps(self.steps)
         return len(self.copies)

@@ -10,22 +10,13 @@ from slideroom.layouts import Layout
 from slideroom.moves import slid, steps_of
 from slideroom.plans import Paper, Plan, Stuck, is_stuck, plan, price_of, slides_to_greater, slides_to_lesser
 from slideroom.prices import gaps_of, prices, stretches_of
+from somelayouts import copies_of_moves, some_layout
 from things import nested, not_whole, refusal, same, things
 
 BIG = 10 ** 60 - 1
 ROWS = [("a", 2, 3, 0), ("b", 7, 2, 0), ("p", 9, 1, 2), ("c", 12, 2, 0)]
 LAYOUT = Layout(16, ROWS)
 NO_SIZES = not_whole() + [0, -1, -BIG]
-
-
-def some_layout(chance, many, sizes=5, pinned=0.3):
-    rows = []
-    at = chance.randrange(4)
-    while at < many and len(rows) < 40:
-        size = min(chance.randint(1, sizes), many - at)
-        rows.append((f"b{len(rows)}", at, size, chance.randint(1, 3) if chance.random() < pinned else 0))
-        at += size + chance.randrange(5)
-    return Layout(many, rows)
 
 
 def some_layouts():
@@ -40,10 +31,6 @@ def told_of(paper):
 
 def largest(layout):
     return max([size for _, size in holes_of(layout)], default=0)
-
-
-def copies_of_moves(layout, moves):
-    return sum(size for _, start, size, to in steps_of(layout, moves) if to != start)
 
 
 class PaperTest(unittest.TestCase):
