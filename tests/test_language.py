@@ -141,11 +141,14 @@ class TopTest(unittest.TestCase):
         for path, tree in trees():
             self.assertIsNotNone(ast.get_docstring(tree), path.name)
             bound = []
+            functions = []
             for node in tree.body[1:]:
+                if isinstance(node, ast.FunctionDef):
+                    functions.append(node.name)
                 self.assertIsInstance(node, (ast.ImportFrom, ast.FunctionDef, ast.ClassDef, ast.Assign), path.name)
                 if isinstance(node, ast.Assign):
                     self.assertEqual(len(node.targets), 1)
-                    ast.literal_eval(node.value)
+                    self.check_plain_value(path.name, node.value, functions)
                     bound.append(node.targets[0].id)
                 elif isinstance(node, ast.ImportFrom):
                     bound.extend(alias.name for alias in node.names)
@@ -153,6 +156,28 @@ class TopTest(unittest.TestCase):
                     bound.append(node.name)
             self.assertEqual(len(bound), len(set(bound)), path.name)
             self.assertFalse(set(bound) & set(dir(builtins)), path.name)
+
+    def check_plain_value(self, name, value, functions):
+        """Plain values, and lists, tuples and dicts of these and of functions defined above."""
+        for node in ast.walk(value):
+            if isinstance(node, ast.Name):
+                self.assertIn(node.id, functions, name)
+            elif not isinstance(node, (ast.Load, ast.USub)):
+                self.assertIsInstance(node, (ast.Constant, ast.UnaryOp, ast.Tuple, ast.List, ast.Dict), name)
+            if node is not value:
+                self.assertNotIsInstance(node, (ast.List, ast.Dict), name)
+
+    def test_lists_and_dicts_of_the_top_are_only_read(self):
+        for path, tree in trees():
+            kept = {
+                node.targets[0].id for node in tree.body
+                if isinstance(node, ast.Assign) and isinstance(node.value, (ast.List, ast.Dict))
+            }
+            for outer in ast.walk(tree):
+                for node in ast.iter_child_nodes(outer):
+                    if isinstance(node, ast.Name) and node.id in kept and isinstance(node.ctx, ast.Load):
+                        indexed = isinstance(outer, ast.Subscript) and isinstance(outer.ctx, ast.Load)
+                        self.assertTrue(indexed or isinstance(outer, ast.Compare), (path.name, node.id))
 
 
 class CodeTest(unittest.TestCase):

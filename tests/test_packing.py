@@ -328,7 +328,8 @@ class IsTidiedTest(unittest.TestCase):
     def test_things_of_every_kind(self):
         for thing in things() + [nested(9)]:
             for told in [thing, (5, thing), (thing, [("c", 14), ("a", 4)]), (5, [("c", 14), ("a", 4), thing]),
-                         (5, [("c", 14), ("a", 4)], thing), (5, [("c", thing), ("a", 4)]), (5, [(thing, 14), ("a", 4)])]:
+                         (5, [("c", 14), ("a", 4)], thing), (5, [("c", thing), ("a", 4)]),
+                         (5, [(thing, 14), ("a", 4)])]:
                 self.check(told, False)
             self.check((0, thing), isinstance(thing, list) and thing == [], EMPTY)
             self.check((thing, []), type(thing) is int and thing == 0, EMPTY)
